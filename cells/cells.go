@@ -23,17 +23,19 @@ func One(d api.Desc, i, op int, args []int, ins ...api.Tensor) int {
 
 // Of is the elements from from to below to of the answer.
 func Of(op int, args []int, from, to int, ins ...api.Tensor) []int {
-	out := make([]int, 0, to-from)
-	for i := from; i < to; i++ {
-		out = append(out, element(op, args, i, ins))
-	}
+	out := make([]int, to-from)
+	fill(out, from, op, args, ins)
 	return out
 }
 
-// element is the element i of the answer.
-func element(op int, args []int, i int, ins []api.Tensor) int {
+// fill lays the elements from from on into out, as many as it has.
+func fill(out []int, from, op int, args []int, ins []api.Tensor) {
 	switch op {
+	case api.MatMul:
+		matmul(out, from, ins[0], ins[1], args[0], args[1])
+	case api.Turn:
+		turn(out, from, ins[0])
 	default:
-		return pointwise(op, args, i, ins)
+		pointwise(out, from, op, args, ins)
 	}
 }

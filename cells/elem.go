@@ -37,11 +37,11 @@ func kept(wide bool, n int) int {
 	return tens.Narrow(n)
 }
 
-func pointwise(op int, args []int, i int, ins []api.Tensor) int {
+// pointwise fills out with what op makes of the elements of one place.
+func pointwise(out []int, from, op int, args []int, ins []api.Tensor) {
 	a := ins[0]
-	y := 0
-	if len(ins) > 1 {
-		y = ins[1].Data[i]
+	b := ins[len(ins)-1] // of one tensor alone nobody looks at it
+	for i := range out {
+		out[i] = Value(op, a.Wide, a.Data[from+i], b.Data[from+i], args)
 	}
-	return Value(op, a.Wide, a.Data[i], y, args)
 }
