@@ -35,6 +35,8 @@ func fill(out []int, from, op int, args []int, ins []api.Tensor) {
 		matmul(out, from, ins[0], ins[1], args[0], args[1])
 	case api.Turn:
 		turn(out, from, ins[0])
+	case api.Conv:
+		conv(out, from, ins[0], ins[1], args[0], args[1], args[2])
 	default:
 		pointwise(out, from, op, args, ins)
 	}
