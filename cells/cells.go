@@ -37,6 +37,8 @@ func fill(out []int, from, op int, args []int, ins []api.Tensor) {
 		turn(out, from, ins[0])
 	case api.Conv:
 		conv(out, from, ins[0], ins[1], args[0], args[1], args[2])
+	case api.MaxPool, api.AvgPool:
+		pool(out, from, op == api.AvgPool, ins[0], args[0], args[1])
 	default:
 		pointwise(out, from, op, args, ins)
 	}
