@@ -39,6 +39,14 @@ func fill(out []int, from, op int, args []int, ins []api.Tensor) {
 		conv(out, from, ins[0], ins[1], args[0], args[1], args[2])
 	case api.MaxPool, api.AvgPool:
 		pool(out, from, op == api.AvgPool, ins[0], args[0], args[1])
+	case api.Softmax:
+		softmax(out, from, ins[0], ins[1])
+	case api.ArgMax:
+		argmax(out, from, ins[0])
+	case api.Sum:
+		sum(out, from, ins[0])
+	case api.Gather:
+		gather(out, from, ins[0], ins[1])
 	default:
 		pointwise(out, from, op, args, ins)
 	}
