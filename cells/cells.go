@@ -47,6 +47,8 @@ func fill(out []int, from, op int, args []int, ins []api.Tensor) {
 		sum(out, from, ins[0])
 	case api.Gather:
 		gather(out, from, ins[0], ins[1])
+	case api.Reshape:
+		copy(out, ins[0].Data[from:])
 	default:
 		pointwise(out, from, op, args, ins)
 	}
