@@ -21,6 +21,9 @@ func One(d api.Desc, i, op int, args []int, ins ...api.Tensor) int {
 	return Of(op, args, i, i+1, ins...)[0]
 }
 
+// Pointwise is whether each element hangs on those of its own place alone.
+func Pointwise(op int) bool { return op >= api.Add && op <= api.Widen || op == api.Reshape }
+
 // Of is the elements from from to below to of the answer.
 func Of(op int, args []int, from, to int, ins ...api.Tensor) []int {
 	out := make([]int, to-from)
