@@ -167,8 +167,9 @@ func TestPutPlans(t *testing.T) {
 	small.do(api.PutGraph, Body(1, g), api.ErrQuota, 0)
 	small.do(api.PutPlan, Body(2, p), api.ErrQuota, 0)
 	small.blocks(map[int]int{0: len(p)})
-	if got, err := small.c.plan(1); err != nil {
-		t.Error(got, err)
+	small.do(api.Free, Body(1, 0), api.ErrNone, 0)
+	if !slices.Equal(small.c.Plans(), []int{1}) {
+		t.Error(small.c.Plans())
 	}
 }
 

@@ -1,12 +1,25 @@
 // Package cells: what the elements of an operation's answer come to, whether all are asked for or a few.
 //
-// Its callers have seen to it that the op, args and ins may be; nothing is looked at again here.
+// Its callers have seen to it that the op, args and ins may be; but for Looks, nothing is looked at again here.
 package cells
 
 import (
 	"lodge/api"
 	"lodge/shape"
+	"lodge/tens"
 )
+
+// Looks is what tensors look like, or the error of the first that may not be.
+func Looks(ins ...api.Tensor) ([]api.Desc, error) {
+	var out []api.Desc
+	for _, t := range ins {
+		if err := tens.Valid(t); err != nil {
+			return nil, err
+		}
+		out = append(out, t.Desc)
+	}
+	return out, nil
+}
 
 // All is the whole answer, that looks like d.
 func All(d api.Desc, op int, args []int, ins ...api.Tensor) api.Tensor {

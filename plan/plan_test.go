@@ -35,6 +35,9 @@ func told(err, want error, place int) bool {
 	return err == want && place < 0
 }
 
+// alone is a plan of one instruction.
+func alone(n api.Instr) api.Plan { return api.Plan{Code: []api.Instr{n}} }
+
 // P14.1
 func TestBytes(t *testing.T) {
 	if b, err := Bytes(api.Plan{}); err != nil || !bytes.Equal(b, append([]byte("LP"), make([]byte, 20)...)) {
@@ -61,7 +64,7 @@ func TestBytes(t *testing.T) {
 		t.Error(code, err)
 	}
 	n, size, err := Instr(append(code, 1, 2, 3))
-	if err != nil || size != 31 || !sameInstr(n, sample().Code[0]) {
+	if err != nil || size != 31 || !Same(alone(n), alone(sample().Code[0])) {
 		t.Error(n, size, err)
 	}
 }
@@ -145,7 +148,7 @@ func TestReadRefuses(t *testing.T) {
 func TestInstrRefuses(t *testing.T) {
 	b, _ := Code(sample().Code[0])
 	for n := range b {
-		if got, k, err := Instr(b[:n]); err != api.ErrEnd || k != 0 || !sameInstr(got, api.Instr{}) {
+		if got, k, err := Instr(b[:n]); err != api.ErrEnd || k != 0 || !Same(alone(got), alone(api.Instr{})) {
 			t.Error(n, err)
 		}
 	}
