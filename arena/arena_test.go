@@ -27,6 +27,13 @@ func TestNew(t *testing.T) {
 			t.Error(size, err)
 		}
 	}
+	one := fresh(t, 1)
+	if p, err := one.Add(4, 1); p != (Part{4, 0, 1}) || err != nil {
+		t.Error(p, err)
+	}
+	if at, err := one.Take(4, 1); at != 0 || err != nil {
+		t.Error(at, err)
+	}
 	a := fresh(t, api.MaxArena)
 	if !bytes.Equal(a.Raw(0, api.MaxArena), make([]byte, api.MaxArena)) || len(a.Parts()) != 0 {
 		t.Error("not empty")

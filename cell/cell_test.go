@@ -350,6 +350,9 @@ func TestClose(t *testing.T) {
 	h.do(api.Submit, Body(1, 0, uint32(99), of(narrow(2), 5, 6)), nil, 0)
 	h.s.Put(9, 0, of(narrow(), 4))
 	c := h.c.Clone(h.s.Clone(), h.a.Clone())
+	if used, _ := h.c.Run(2, 0); used != 2 {
+		t.Error(used)
+	}
 	h.c.Close()
 	h.blocks(map[int]int{})
 	if h.c.Waiting() != 0 || h.c.Next() != 0 || len(h.c.Plans()) != 0 || h.s.Accept(1, 3, 2, 0) != api.ErrCap || len(slices.Collect(h.s.Slots(3))) != 0 {

@@ -2,6 +2,7 @@ package check
 
 import (
 	"math"
+	"slices"
 	"testing"
 
 	"lodge/api"
@@ -83,6 +84,10 @@ func TestValid(t *testing.T) {
 		if n, err := Total(p); !told(err, x.err, x.place) || n != 0 {
 			t.Error(i, n, err)
 		}
+	}
+	full := api.Plan{Size: api.MaxMem, Views: make([]api.View, api.MaxViews), Weights: make([]api.Desc, api.MaxWeights), Code: slices.Repeat([]api.Instr{{Op: api.Halt}}, api.MaxCode), Consts: slices.Repeat([]api.Tensor{of(narrow(), 1)}, api.MaxNodes)}
+	if n, err := Total(full); n != api.MaxCode || err != nil {
+		t.Error(n, err)
 	}
 	p := sample()
 	p.Views[7].Off = p.Size - 2048

@@ -40,7 +40,7 @@ func TestResult(t *testing.T) {
 		{[]int{0, 0, 0}, narrow(1, 1), narrow(1, 1, 1, 1), nil, api.ErrShape}, {ok, narrow(1, 1, 1), narrow(1, 1, 1), nil, api.ErrShape}, {ok, narrow(1, 1, 1, 1), narrow(1, 1, 1, 1), nil, api.ErrShape},
 		{ok, wide(1, 1, 1), narrow(1, 1, 1, 1), nil, api.ErrShape}, {ok, narrow(1, 1, 1), wide(1, 1, 1, 1), nil, api.ErrShape}, {ok, narrow(1, 1, 2), narrow(1, 1, 1, 1), nil, api.ErrShape},
 		{[]int{0, 0, 0}, narrow(1, 1, 1), narrow(2, 1, 1, 1), nil, api.ErrRange}, {[]int{17, 0, 0}, narrow(1, 1, 1), narrow(1, 1, 1, 1), nil, api.ErrRange}, {[]int{1, -1, 0}, narrow(1, 1, 1), narrow(1, 1, 1, 1), nil, api.ErrRange}, {[]int{1, 16, 0}, narrow(1, 1, 1), narrow(1, 1, 1, 1), nil, api.ErrRange}, {[]int{1, 0, 128}, narrow(1, 1, 1), narrow(1, 1, 1, 1), nil, api.ErrRange}, {[]int{1, 0, -129}, narrow(1, 1, 1), narrow(1, 1, 1, 1), nil, api.ErrRange},
-		{ok, narrow(1, 2, 1), narrow(2, 1, 1, 1), nil, api.ErrShape}, {ok, narrow(2, 1, 1), narrow(1, 2, 1, 1), nil, api.ErrShape}, {[]int{1, 1, 0}, narrow(1, 1, 1), narrow(4, 1, 1, 1), nil, api.ErrShape},
+		{ok, narrow(1, 2, 1), narrow(2, 1, 1, 1), nil, api.ErrShape}, {ok, narrow(2, 1, 1), narrow(1, 2, 1, 1), nil, api.ErrShape}, {[]int{1, 1, 0}, narrow(1, 1, 1), narrow(4, 1, 1, 1), nil, api.ErrShape}, {[]int{1, 1, 0}, narrow(1, 1, 1), narrow(1, 4, 1, 1), nil, api.ErrShape}, {ok, narrow(2, 1, 2), narrow(1, 2, 2, 1), nil, api.ErrShape}, {[]int{1, 1, 0}, narrow(9, 1, 9), narrow(1, 4, 9, 1), nil, api.ErrShape}, {ok, narrow(1, 9, 9), narrow(2, 1, 9, 1), nil, api.ErrShape},
 		{[]int{1, 15, 0}, narrow(256, 1, 1), narrow(1, 1, 1, 1), nil, api.ErrRange},
 		{ok, narrow(64, 64, 1), narrow(1, 1, 1, 5), nil, api.ErrMany},
 	} {

@@ -2,6 +2,7 @@ package desk
 
 import (
 	"slices"
+	"strconv"
 	"strings"
 	"testing"
 
@@ -119,9 +120,20 @@ func TestScript(t *testing.T) {
 		"weight 9 0 n[]:1\terror "+api.ErrTag.Error(), "step 1\tnobody",
 		"retire 0", "retire 0\t!"+api.ErrTenant.Error(), "tenants\t3", "free 0 plan 0\terror "+api.ErrTag.Error(),
 		"admit 0 part 500 quantum 1024 queue 4", "weight 0 0 n[]:1\tok 2", "admit 0 part 500 quantum 1024 queue 4\t!"+api.ErrRange.Error(), "admit 1 part 5000 quantum 1024 queue 4\t!"+api.ErrRoom.Error(), "admit -1 part 5 quantum 1024 queue 4\t!"+api.ErrRange.Error(),
+		"graph 0 0 input(;0)\tok 1", "run 0 0 fuel 1 n[]:6\tok 0", "step 1\t0 used 0|0 #3 ok 0 n[]:6", // its counters begin anew
 		"host 0 fixed\t!"+api.ErrRange.Error(), "tenants\t0|3",
 		"host 1000 fixed", "tenants", "admit 5 part 500 quantum 1024 queue 4", "admit 2 part 500 quantum 1024 queue 4", "step 3\t2 used 0|5 used 0|2 used 0",
 	)
+}
+
+// P30.2
+func TestCounters(t *testing.T) {
+	d := New()
+	script(t, d, "host 2000 busy", "admit 0 part 1000 quantum 1024 queue 4", "graph 0 0 input(;0)\tok 1")
+	for i := range 30 {
+		n := strconv.Itoa(i + 2)
+		script(t, d, "run 0 0 fuel 0 n[]:6\tok 0", "step 1\t0 used 0|0 #"+n+" ok 0 n[]:6")
+	}
 }
 
 // P30.2: numbers that go round.

@@ -163,6 +163,15 @@ func TestClone(t *testing.T) {
 	expect(t, r, 0, 3, 1, 2)
 	expect(t, r, 1, 3, 3)
 	expect(t, c, 1, 7, 3, 4)
+	for _, cost := range []int{5, 6, 7} { // room behind the list must not be shared
+		r.Push(1, cost)
+	}
+	d := r.Clone()
+	d.Push(1, 8)
+	r.Push(1, 9)
+	if got := d.Waiting(1); !slices.Equal(got, []int{5, 6, 7, 8}) {
+		t.Error(got)
+	}
 	c.Leave(1)
 	if len(r.Places()) != 2 || !slices.Equal(New(true).Clone().Places(), nil) {
 		t.Error("shared")

@@ -32,6 +32,12 @@ func TestKind(t *testing.T) {
 	}
 }
 
+func TestNumbers(t *testing.T) {
+	if NaN != 1 || Infinite != 2 || Zero != 3 || Small != 4 || Usual != 5 {
+		t.Error("the kinds")
+	}
+}
+
 // P3.1
 func TestOrder(t *testing.T) {
 	l := []float64{-inf, -math.MaxFloat64, -1, -tiny, minus, 0, tiny, 1, 2, math.MaxFloat64, inf, nan}
@@ -51,6 +57,11 @@ func TestOrder(t *testing.T) {
 	before := append([]float64{}, mixed...)
 	for i, x := range Sort(mixed...) {
 		if !Same(x, l[i]) || !Same(mixed[i], before[i]) {
+			t.Error(i, x)
+		}
+	}
+	for i, x := range Sort(2, other, 1, nan, 2) { // NaNs stay in their order
+		if math.Float64bits(x) != math.Float64bits([]float64{1, 2, 2, other, nan}[i]) {
 			t.Error(i, x)
 		}
 	}
@@ -77,6 +88,15 @@ func TestRound(t *testing.T) {
 	for i, x := range []struct{ x, want float64 }{{2.5, 2}, {3.5, 4}, {-2.5, -2}, {0.5, 0}, {-0.5, minus}, {-0.4, minus}, {0.4, 0}, {minus, minus}, {0.5000000000000001, 1}, {0.49999999999999994, 0}, {1 << 52, 1 << 52}, {1<<52 - 0.5, 1 << 52}, {inf, inf}, {-inf, -inf}, {nan, nan}, {tiny, 0}, {-1.5, -2}} {
 		if got := Round(x.x); !Same(got, x.want) {
 			t.Error(i, got)
+		}
+	}
+}
+
+// P3.2: itself, to the bit.
+func TestRoundKeeps(t *testing.T) {
+	for _, b := range []uint64{0x7ff0000000000001, 0xfff8000000000123, 0x7ff0000000000000} {
+		if got := math.Float64bits(Round(math.Float64frombits(b))); got != b {
+			t.Errorf("%x", got)
 		}
 	}
 }

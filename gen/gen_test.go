@@ -49,6 +49,10 @@ func TestOf(t *testing.T) {
 		want api.Plan
 	}{
 		{api.Graph{Nodes: []api.Node{node(api.Input, nil, 0, 2)}}, api.Plan{Size: 4, Views: []api.View{{Desc: narrow(2)}}, Code: []api.Instr{halt}}},
+		{
+			api.Graph{Nodes: []api.Node{node(api.Input, nil, 0, 16, 8, 8), node(api.Weight, nil, 0, 0, 16, 8, 8, 1), node(api.Conv, []int{0, 1}, 1, 0, 0)}, Out: 2},
+			api.Plan{Size: 2052, Views: []api.View{{Desc: narrow(16, 8, 8)}, {Off: 1024, Desc: narrow(16, 8, 8, 1)}, {Off: 2048, Desc: wide(1, 1, 1)}}, Weights: []api.Desc{narrow(16, 8, 8, 1)}, Code: []api.Instr{{Op: api.Weight, Dst: 1, Args: []int{0}, To: 1024}, {Op: api.Conv, Dst: 2, Ins: []int{0, 1}, Args: []int{1, 0, 0}, To: 1}, halt}, Output: 2},
+		},
 		{api.Graph{Nodes: []api.Node{{Op: api.Const, T: of(wide(), 7)}}}, api.Plan{Size: 4, Views: []api.View{{Desc: narrow()}, {Desc: wide()}}, Consts: []api.Tensor{of(wide(), 7)}, Code: []api.Instr{{Op: api.Const, Dst: 1, Args: []int{0}, To: 1}, halt}, Output: 1}},
 		{
 			api.Graph{Nodes: []api.Node{node(api.MatMul, []int{3, 4}, 1, 2), {Op: api.Const, T: of(narrow(), 1)}, node(api.Input, nil, 0, 40, 30), node(api.Relu, []int{2}), node(api.Weight, nil, 1, 0, 30, 1), node(api.Input, nil, 0, 40, 30)}, Out: 0},

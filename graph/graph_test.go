@@ -81,6 +81,9 @@ func TestBytesRefuses(t *testing.T) {
 	if _, err := Bytes(api.Graph{Nodes: make([]api.Node, api.MaxNodes), Out: 65535}); err != nil {
 		t.Error(err)
 	}
+	if _, err := Bytes(node(api.Node{Ins: make([]int, api.MaxArgs), Args: make([]int, api.MaxArgs)})); err != nil {
+		t.Error(err)
+	}
 }
 
 // P17.1
@@ -133,7 +136,7 @@ func TestSameAndClone(t *testing.T) {
 
 // P17.1
 func TestUses(t *testing.T) {
-	g := api.Graph{Nodes: []api.Node{{Ins: []int{2, 2}}, {Ins: []int{0, 1, -1, 9}}, {Ins: []int{1, 0, 1}}, {}}}
+	g := api.Graph{Nodes: []api.Node{{Ins: []int{2, 2}}, {Ins: []int{0, 1, -1, 4, 9}}, {Ins: []int{1, 0, 1}}, {}}}
 	want := [][]int{{1, 2}, {1, 2}, {0}, nil}
 	got := Uses(g)
 	if len(Uses(api.Graph{})) != 0 || len(got) != 4 {

@@ -511,4 +511,13 @@ func TestDigestAndClone(t *testing.T) {
 	if h.Digest() != before {
 		t.Error("shared")
 	}
+	c, d := h.Clone(), h.Clone()
+	c.Frame(seal(0, 20000, 98, nil))
+	d.Frame(seal(0, 20001, 99, nil))
+	h.Frame(seal(0, 20002, 97, nil))
+	for i, x := range []*Host{c, d, h} {
+		if l := x.Replies(0); l[len(l)-1].Counter != uint64(20000+i) {
+			t.Error(i, "the clones' replies")
+		}
+	}
 }

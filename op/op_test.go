@@ -173,6 +173,9 @@ func TestCounts(t *testing.T) {
 		if _, err := Result(op, nil); err != api.ErrKind {
 			t.Error(op, err)
 		}
+		if _, err := Result(op, []int{1}, narrow(0)); err != api.ErrKind {
+			t.Error(op, err)
+		}
 		if _, err := Apply(op, nil); err != api.ErrKind {
 			t.Error(op, err)
 		}

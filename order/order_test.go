@@ -139,6 +139,9 @@ func TestOf(t *testing.T) {
 	if !slices.EqualFunc(s.Descs, descs, shape.Same) || g.Nodes[3].Args[1] != 2 || g.Nodes[1].Args[2] != 5 {
 		t.Error("shared")
 	}
+	if s, err := Of(api.Graph{Nodes: slices.Repeat([]api.Node{{Op: api.Input, Args: []int{0}}}, api.MaxNodes)}); err != nil || len(s.Order) != api.MaxNodes {
+		t.Error(s, err)
+	}
 	s, err = Of(api.Graph{Nodes: []api.Node{{Op: api.Const, T: of(narrow(), 1)}}})
 	if err != nil || !shape.Same(s.In, narrow()) || len(s.Weights) != 0 {
 		t.Error(s, err)
@@ -163,7 +166,7 @@ func TestOfRefuses(t *testing.T) {
 		{last(ok, api.Node{Op: api.Input, Args: []int{1, 2}}), api.ErrShape, 1}, {last(ok, api.Node{Op: api.Input, Args: []int{0, 2, 1}}), api.ErrShape, 1}, {last(ok, api.Node{Op: api.Input, Args: []int{0, 0}}), api.ErrRange, 1},
 		{last(api.Node{Op: api.Weight}), api.ErrShape, 0}, {last(api.Node{Op: api.Weight, Args: []int{0}}), api.ErrShape, 0}, {last(api.Node{Op: api.Weight, Args: []int{8, 0}}), api.ErrRange, 0}, {last(api.Node{Op: api.Weight, Args: []int{-1, 0}}), api.ErrRange, 0}, {last(api.Node{Op: api.Weight, Args: []int{7, 2}}), api.ErrRange, 0}, {last(api.Node{Op: api.Weight, Args: []int{7, 0, 300}}), api.ErrRange, 0},
 		{last(api.Node{Op: api.Weight, Args: []int{7, 0, 3}}, api.Node{Op: api.Weight, Args: []int{7, 0, 4}}), api.ErrShape, 1},
-		{last(api.Node{Op: api.Const, Args: []int{0}}), api.ErrShape, 0}, {last(api.Node{Op: api.Const, T: of(narrow(2), 1, 200)}), api.ErrRange, 0}, {last(api.Node{Op: api.Const, T: of(narrow(0))}), api.ErrRange, 0}, {last(api.Node{Op: api.Const, T: of(narrow(2))}), api.ErrShape, 0},
+		{last(api.Node{Op: api.Const, Args: []int{0}, T: of(narrow(), 1)}), api.ErrShape, 0}, {last(api.Node{Op: api.Const, Args: []int{0}, T: of(narrow(0))}), api.ErrShape, 0}, {last(api.Node{Op: api.Const, T: of(narrow(2), 1, 200)}), api.ErrRange, 0}, {last(api.Node{Op: api.Const, T: of(narrow(0))}), api.ErrRange, 0}, {last(api.Node{Op: api.Const, T: of(narrow(2))}), api.ErrShape, 0},
 		{last(ok, api.Node{Op: api.Relu}), api.ErrShape, 1}, {last(ok, api.Node{Op: api.Clamp, Ins: []int{0}, Args: []int{2, 1}}), api.ErrRange, 1}, {last(api.Node{Op: api.Turn, Ins: []int{1}}, ok), api.ErrShape, 0},
 	} {
 		s, err := Of(x.g)

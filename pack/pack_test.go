@@ -53,6 +53,17 @@ func TestPlacedErrors(t *testing.T) {
 	}
 }
 
+func TestBehindAnError(t *testing.T) {
+	r := Read([]byte{1, 2, 3, 4})
+	if r.Count(Byte, 1, api.ErrRange) != 1 || r.Err() != nil {
+		t.Error("a count at its bound")
+	}
+	r.Fail(api.ErrKind)
+	if r.Number(Byte) != 0 || r.At() != 1 || r.Piece(1) != nil || r.Rest() != nil || r.Err() != api.ErrKind {
+		t.Error("something was read")
+	}
+}
+
 func TestDesc(t *testing.T) {
 	d := api.Desc{Shape: []int{1, 258}, Wide: true}
 	b := AppendDesc(nil, d)
@@ -61,6 +72,14 @@ func TestDesc(t *testing.T) {
 	}
 	r := Read(b)
 	if got := r.Desc(); !got.Wide || !slices.Equal(got.Shape, d.Shape) || r.Err() != nil {
+		t.Error(got)
+	}
+	r = Read([]byte{8, 7})
+	if got := r.Desc(); !got.Wide || len(got.Shape) != 0 || r.Err() != nil {
+		t.Error(got)
+	}
+	r = Read([]byte{7, 1, 0, 1, 0, 1, 0, 1, 0, 1, 0, 1, 0, 1, 0})
+	if got := r.Desc(); got.Wide || len(got.Shape) != 7 || r.Err() != nil {
 		t.Error(got)
 	}
 	r = Read([]byte{16})

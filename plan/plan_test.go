@@ -101,6 +101,12 @@ func TestBytesRefuses(t *testing.T) {
 	if _, err := Code(api.Instr{Ins: many(9)}); err != api.ErrMany {
 		t.Error(err)
 	}
+	if _, err := Code(api.Instr{Ins: many(8), Args: many(8)}); err != nil {
+		t.Error(err)
+	}
+	if _, err := Code(make([]api.Instr, api.MaxCode+1)...); err != api.ErrMany {
+		t.Error(err)
+	}
 	if _, err := Code(wrong); err != api.ErrRange {
 		t.Error(err)
 	}

@@ -60,7 +60,7 @@ func TestFixed(t *testing.T) {
 		m           float64
 		mult, shift int
 		err         error
-	}{{1, 1 << 30, 30, nil}, {0x1p30, 1 << 30, 0, nil}, {0x1p-30, 1 << 30, 60, nil}, {0.75, 3 << 29, 31, nil}, {math.Nextafter(1, 0), 1 << 30, 30, nil}, {1 + 0x1p-31, 1 << 30, 30, nil}, {1 + 0x3p-31, 1<<30 + 2, 30, nil}, {math.Nextafter(0x1p30, inf), 0, 0, api.ErrRange}, {math.Nextafter(0x1p-30, 0), 0, 0, api.ErrRange}, {0, 0, 0, api.ErrRange}, {-1, 0, 0, api.ErrRange}, {nan, 0, 0, api.ErrRange}, {inf, 0, 0, api.ErrRange}} {
+	}{{1, 1 << 30, 30, nil}, {0x1p30, 1 << 30, 0, nil}, {0x1p-30, 1 << 30, 60, nil}, {0.75, 3 << 29, 31, nil}, {1 - 0x1p-31, 1<<31 - 1, 31, nil}, {math.Nextafter(1, 0), 1 << 30, 30, nil}, {1 + 0x1p-31, 1 << 30, 30, nil}, {1 + 0x3p-31, 1<<30 + 2, 30, nil}, {math.Nextafter(0x1p30, inf), 0, 0, api.ErrRange}, {math.Nextafter(0x1p-30, 0), 0, 0, api.ErrRange}, {0, 0, 0, api.ErrRange}, {-1, 0, 0, api.ErrRange}, {nan, 0, 0, api.ErrRange}, {inf, 0, 0, api.ErrRange}} {
 		if mult, shift, err := Fixed(x.m); mult != x.mult || shift != x.shift || err != x.err {
 			t.Error(i, mult, shift, err)
 		}
@@ -110,7 +110,7 @@ func TestFit(t *testing.T) {
 		l    []float64
 		want Scale
 		err  error
-	}{{[]float64{0, 255}, Scale{1, -128}, nil}, {[]float64{-255}, Scale{1, 127}, nil}, {[]float64{-100, 155, inf, nan, -inf}, Scale{1, -28}, nil}, {nil, Scale{}, api.ErrRange}, {[]float64{inf, nan}, Scale{}, api.ErrRange}, {[]float64{5e-324}, Scale{}, api.ErrRange}, {[]float64{-math.MaxFloat64, math.MaxFloat64}, Scale{}, api.ErrRange}, {[]float64{-0.5, 255 - 0.5}, Scale{1, -128}, nil}, {[]float64{-1.5, 255 - 1.5}, Scale{1, -126}, nil}} {
+	}{{[]float64{0, 255}, Scale{1, -128}, nil}, {[]float64{-255}, Scale{1, 127}, nil}, {[]float64{-102, 408}, Scale{2, -77}, nil}, {[]float64{math.MaxFloat64}, Scale{math.MaxFloat64 / 255, -128}, nil}, {[]float64{-100, 155, inf, nan, -inf}, Scale{1, -28}, nil}, {nil, Scale{}, api.ErrRange}, {[]float64{inf, nan}, Scale{}, api.ErrRange}, {[]float64{5e-324}, Scale{}, api.ErrRange}, {[]float64{-math.MaxFloat64, math.MaxFloat64}, Scale{}, api.ErrRange}, {[]float64{-0.5, 255 - 0.5}, Scale{1, -128}, nil}, {[]float64{-1.5, 255 - 1.5}, Scale{1, -126}, nil}} {
 		if s, err := Fit(x.l...); s != x.want || err != x.err {
 			t.Error(i, s, err)
 		}

@@ -134,6 +134,9 @@ func TestSample(t *testing.T) {
 
 // P16.2
 func TestEnds(t *testing.T) {
+	if Running != 0 || Done != 1 || Spent != 2 {
+		t.Error("the states")
+	}
 	one := []api.View{{Desc: narrow(1)}, {Off: 1, Desc: narrow(1)}}
 	in := of(narrow(1), 3)
 	start := func(fuel int, code ...api.Instr) *Machine {
