@@ -21,9 +21,9 @@ func Looks(ins ...api.Tensor) ([]api.Desc, error) {
 	return out, nil
 }
 
-// All is the whole answer, that looks like d.
+// All is the whole answer, that looks like d, and has d's shape.
 func All(d api.Desc, op int, args []int, ins ...api.Tensor) api.Tensor {
-	return api.Tensor{Desc: shape.Clone(d), Data: Of(op, args, 0, shape.Elems(d.Shape...), ins...)}
+	return api.Tensor{Desc: d, Data: Of(op, args, 0, shape.Elems(d.Shape...), ins...)}
 }
 
 // One is the element i of the answer, that looks like d; of a place that is none 0.

@@ -102,7 +102,7 @@ func TestInstr(t *testing.T) {
 		n   api.Instr
 		err error
 	}{
-		{api.Instr{Op: api.Input, Dst: 99}, api.ErrKind}, {api.Instr{Op: 0}, api.ErrKind}, {api.Instr{Op: 25}, api.ErrKind}, {api.Instr{Op: -1}, api.ErrKind},
+		{api.Instr{Op: api.Input, Dst: 99}, api.ErrKind}, {api.Instr{Op: 0}, api.ErrKind}, {api.Instr{Op: 25}, api.ErrKind}, {api.Instr{Op: -1}, api.ErrKind}, {api.Instr{Op: 99, Dst: 99, Ins: []int{99}}, api.ErrKind},
 		{api.Instr{Op: api.Const, Dst: 8}, api.ErrNone}, {api.Instr{Op: api.Weight, Dst: -1}, api.ErrNone}, {api.Instr{Op: api.Add, Dst: 8}, api.ErrNone}, {api.Instr{Op: api.Add, Dst: 2, Ins: []int{0, 8}}, api.ErrNone}, {api.Instr{Op: api.Add, Dst: 2, Ins: []int{0, 1, -1}}, api.ErrNone}, {api.Instr{Op: api.Halt, Ins: []int{8}}, api.ErrNone}, {api.Instr{Op: api.Const, Ins: []int{8}}, api.ErrNone}, {api.Instr{Op: api.JumpZero, Ins: []int{9}}, api.ErrNone},
 		{api.Instr{Op: api.Const, Dst: 0, Args: []int{0}, To: 4}, nil}, {api.Instr{Op: api.Const, Dst: 0, To: 9}, api.ErrShape}, {api.Instr{Op: api.Const, Dst: 0, Args: []int{9, 9}}, api.ErrShape}, {api.Instr{Op: api.Const, Dst: 0, Args: []int{9}, Ins: []int{1}}, api.ErrShape}, {api.Instr{Op: api.Const, Dst: 3, Args: []int{2}}, api.ErrNone}, {api.Instr{Op: api.Const, Dst: 0, Args: []int{-1}}, api.ErrNone}, {api.Instr{Op: api.Const, Dst: 3, Args: []int{0}, To: 99}, api.ErrShape}, {api.Instr{Op: api.Const, Dst: 4, Args: []int{1}, To: 1}, nil},
 		{api.Instr{Op: api.Weight, Dst: 1, Args: []int{0}, From: 4, To: 4}, nil}, {api.Instr{Op: api.Weight, Dst: 1, Args: []int{1}}, api.ErrNone}, {api.Instr{Op: api.Weight, Dst: 3, Args: []int{0}}, api.ErrShape}, {api.Instr{Op: api.Weight, Dst: 1}, api.ErrShape},

@@ -53,6 +53,12 @@ func TestAll(t *testing.T) {
 	if again, err := All(sample(), in, w...); err != nil || !tens.Same(again[3], of(narrow(2, 3), 1, 2, 3, 4, 5, 6)) || !tens.Same(again[4], of(narrow(3, 1), 1, 1, -2)) {
 		t.Error("shared", again, err)
 	}
+	g := sample()
+	all, _ = All(g, in, w...)
+	all[5].Data[0], all[5].Shape[0] = 99, 99
+	if g.Nodes[5].T.Data[0] != 7 || g.Nodes[5].T.Shape[0] != 2 {
+		t.Error("shared with the graph")
+	}
 	one := api.Graph{Nodes: []api.Node{{Op: api.Input, Args: []int{1}}, {Op: api.Input, Args: []int{1}}}}
 	if out, err := Of(one, of(wide(), 5)); err != nil || !tens.Same(out, of(wide(), 5)) {
 		t.Error(out, err)

@@ -151,6 +151,17 @@ func TestTurnsOfTheFixed(t *testing.T) {
 	expect(t, r, 2, 0)
 }
 
+// P0.4
+func TestShared(t *testing.T) {
+	r := New(false)
+	r.Join(1024)
+	r.Push(0, 1000, 7, 1000, 9)
+	_, _, each := r.Turn()
+	if each = append(each, 99); len(each) != 3 || !slices.Equal(r.Waiting(0), []int{1000, 9}) {
+		t.Error(each, r.Waiting(0))
+	}
+}
+
 func TestClone(t *testing.T) {
 	r := New(false)
 	r.Join(1024)

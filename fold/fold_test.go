@@ -43,6 +43,21 @@ func TestConsts(t *testing.T) {
 	}
 }
 
+// P0.4
+func TestShared(t *testing.T) {
+	g := api.Graph{Nodes: []api.Node{constant(narrow(1), 5), {Op: api.Input, Args: []int{0}}}}
+	for i, do := range []func(api.Graph) (api.Graph, error){Consts, Dead, Do} {
+		h, err := do(g)
+		if err != nil {
+			t.Fatal(err)
+		}
+		h.Nodes[0].T.Data[0], h.Nodes[1].Args[0] = 9, 1
+		if g.Nodes[0].T.Data[0] != 5 || g.Nodes[1].Args[0] != 0 {
+			t.Error(i, "shared")
+		}
+	}
+}
+
 // P20.1: elements times unit, at the bound.
 func TestConstsTooMuch(t *testing.T) {
 	for _, x := range []struct {
@@ -109,9 +124,10 @@ func TestMeansTheSame(t *testing.T) {
 		if err != nil {
 			t.Fatal(err)
 		}
+		before := graph.Clone(g)
 		for i, do := range []func(api.Graph) (api.Graph, error){Consts, Dead, Do} {
 			h, err := do(g)
-			if err != nil {
+			if err != nil || !graph.Same(g, before) {
 				t.Fatal(i, err)
 			}
 			u, err := order.Of(h)

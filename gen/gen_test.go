@@ -76,6 +76,17 @@ func TestOf(t *testing.T) {
 		if err != nil || !plan.Same(got, x.want) {
 			t.Error(i, got, err)
 		}
+		for _, c := range got.Consts {
+			c.Data[0]++
+		}
+		for _, n := range got.Code {
+			for k := range n.Args {
+				n.Args[k]++
+			}
+		}
+		if again, err := Of(x.g); err != nil || !plan.Same(again, x.want) {
+			t.Error(i, "shared", again, err)
+		}
 	}
 }
 

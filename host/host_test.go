@@ -102,6 +102,13 @@ func TestWhatGoes(t *testing.T) {
 	h.Frame(seal(2, 1, api.Accept, cell.Body(1, 0, 7)))
 	h.Frame(seal(1, 4, api.Submit, spin(2000)))
 	h.Step()
+	mine := key(7)
+	h.Admit(7, mine, 100, 1024, 1)
+	mine[0]++
+	if r := h.Frame(seal(7, 1, api.PutWeight, cell.Body(0, of(narrow(), 1)))); r.Code != 0 {
+		t.Error("the key was kept", r)
+	}
+	h.Retire(7)
 	told := h.Replies(1)
 	if len(told) != 4 || h.Waiting(1) != 1 || h.Used(1) == 0 {
 		t.Fatal(told)
@@ -233,8 +240,17 @@ func TestDeficit(t *testing.T) {
 	h.Admit(0, key(0), 100000, 1500, 4)
 	p, _ := plan.Bytes(api.Plan{Size: 2000, Views: []api.View{{Desc: narrow(1, 250, 4)}, {Off: 1000, Desc: narrow(1, 250, 4)}}, Code: []api.Instr{{Op: api.Relu, Dst: 1, Ins: []int{0}, To: 1000}, {Op: api.Jump, Args: []int{0}}}})
 	h.Frame(seal(0, 1, api.PutPlan, cell.Body(3, p)))
+	g, _ := graph.Bytes(api.Graph{Nodes: []api.Node{{Op: api.Input, Args: []int{0}}}})
+	h.Frame(seal(0, 10, api.PutGraph, cell.Body(0, g)))
+	h.Frame(seal(0, 11, api.Submit, cell.Body(0, 0, uint32(0), of(narrow(), 5))))
+	h.Step()
+	told := h.Replies(0)
+	told[len(told)-1].Bytes[1] = 9
+	if again := h.Replies(0); !bytes.Equal(again[len(again)-1].Bytes, []byte{0, 5}) {
+		t.Error("shared")
+	}
 	in, _ := tens.Zero(narrow(1, 250, 4))
-	h.Frame(seal(0, 2, api.Submit, cell.Body(3, 0, uint32(4004), in)))
+	h.Frame(seal(0, 12, api.Submit, cell.Body(3, 0, uint32(4004), in)))
 	for i, x := range [][2]int{{1001, 499}, {1001, 998}, {2002, 0}} {
 		if _, used := h.Step(); used != x[0] || h.Deficit(0) != x[1] {
 			t.Error(i, used, h.Deficit(0))

@@ -136,8 +136,16 @@ func TestOf(t *testing.T) {
 		t.Error(s)
 	}
 	s.In.Shape[0], s.Weights[2].Shape[0] = 9, 9
-	if !slices.EqualFunc(s.Descs, descs, shape.Same) || g.Nodes[3].Args[1] != 2 || g.Nodes[1].Args[2] != 5 {
+	if !slices.EqualFunc(s.Descs, descs, shape.Same) {
 		t.Error("shared")
+	}
+	for _, d := range s.Descs {
+		for k := range d.Shape {
+			d.Shape[k] = 9
+		}
+	}
+	if g.Nodes[3].Args[1] != 2 || g.Nodes[1].Args[2] != 5 || g.Nodes[2].T.Shape[0] != 2 {
+		t.Error("shared with the graph")
 	}
 	if s, err := Of(api.Graph{Nodes: slices.Repeat([]api.Node{{Op: api.Input, Args: []int{0}}}, api.MaxNodes)}); err != nil || len(s.Order) != api.MaxNodes {
 		t.Error(s, err)

@@ -42,8 +42,14 @@ func TestResult(t *testing.T) {
 		{api.Gather, two(narrow(5), wide(2)), narrow(), api.ErrShape}, {api.Gather, two(narrow(5, 3), narrow(2)), narrow(), api.ErrShape}, {api.Gather, two(narrow(5, 3), wide(2, 1)), narrow(), api.ErrShape}, {api.Gather, two(narrow(5, 3), wide()), narrow(), api.ErrShape}, {api.Gather, two(narrow(5, 3, 1), wide(2)), narrow(), api.ErrShape},
 		{api.Gather, two(narrow(1, 256), wide(65)), narrow(), api.ErrMany},
 	} {
-		if d, err := Result(x.op, x.ins...); err != x.err || !shape.Same(d, x.want) {
+		d, err := Result(x.op, x.ins...)
+		if err != x.err || !shape.Same(d, x.want) {
 			t.Error(i, d, err)
+		}
+		for k := range d.Shape {
+			if d.Shape[k] = 99; slices.Contains(x.ins[0].Shape, 99) {
+				t.Error(i, "shared")
+			}
 		}
 	}
 }

@@ -96,6 +96,20 @@ func TestZeroSameCloneGet(t *testing.T) {
 	}
 }
 
+// P0.4
+func TestShapesAreTheirOwn(t *testing.T) {
+	d := narrow(2)
+	a, _ := New(d, 1, 2)
+	b, _ := Zero(d)
+	c, _ := Of(d, []byte{1, 2})
+	d.Shape[0] = 9
+	for i, x := range []api.Tensor{a, b, c} {
+		if x.Shape[0] != 2 {
+			t.Error(i)
+		}
+	}
+}
+
 // P6.1
 func TestNarrowAndWide(t *testing.T) {
 	for _, x := range [][3]int{{0, 0, 0}, {127, 127, 127}, {128, 127, 128}, {-128, -128, -128}, {-129, -128, -129}, {1 << 31, 127, -1 << 31}, {-1<<31 - 1, -128, 1<<31 - 1}, {1<<32 + 5, 127, 5}, {math.MaxInt, 127, -1}, {math.MinInt, -128, 0}} {

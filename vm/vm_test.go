@@ -126,8 +126,8 @@ func TestSample(t *testing.T) {
 	if !bytes.Equal(m.Memory(), want) {
 		t.Error(m.Memory())
 	}
-	out.Data[0] = 5
-	if again, _ := m.Out(); again.Data[0] != 0 {
+	out.Data[0], out.Shape[0] = 5, 5
+	if again, _ := m.Out(); again.Data[0] != 0 || again.Shape[0] != 4 {
 		t.Error("shared")
 	}
 }
