@@ -2,6 +2,7 @@ package live
 
 import (
 	"math"
+	"math/big"
 	"math/rand"
 	"slices"
 	"testing"
@@ -157,4 +158,80 @@ func TestApart(t *testing.T) {
 			t.Fatal(len(spans))
 		}
 	}
+}
+
+// P22.2, P22.3: sums that fit no int are cut to the greatest one, and are never within another.
+func TestPlaceFar(t *testing.T) {
+	const most = math.MaxInt
+	for i, x := range []struct {
+		l    []Span
+		want []int
+		end  int
+	}{
+		{[]Span{{0, 0, 0, most - 1}, {0, 0, 0, 8}}, []int{0, most}, most},
+		{[]Span{{0, 0, 0, most}, {0, 0, 0, 1}}, []int{0, most}, most},
+		{[]Span{{0, 0, 0, most - 3}, {0, 0, 0, 3}}, []int{0, most - 3}, most},
+		{[]Span{{0, 0, 0, most - 3}, {0, 0, 0, 4}}, []int{0, most - 3}, most},
+		{[]Span{{0, 0, 0, most - 2}, {0, 0, 0, 4}}, []int{0, most}, most},
+		{[]Span{{0, 0, 0, 8}, {0, 0, 0, most}, {0, 0, 0, most}, {0, 0, 0, most}, {0, 0, 0, 4}}, []int{0, 8, most, most, most}, most},
+		{[]Span{{0, 0, 0, most}, {1, 1, 0, most}, {0, 1, 0, 4}, {2, 2, 0, 4}}, []int{0, 0, most, 0}, most},
+		{[]Span{{0, 0, 0, most}}, []int{0}, most},
+		{[]Span{{0, 0, 0, most - 1}, {0, 1, 0, 8}, {1, 1, 0, 4}, {1, 1, 0, most - 3}, {1, 1, 0, 4}}, []int{0, most, 0, 4, most}, most}, // the fourth one ends where the second one begins
+		{[]Span{{0, 0, 0, most - 1}, {0, 1, 0, 8}, {1, 1, 0, 4}, {1, 1, 0, most - 2}}, []int{0, most, 0, most}, most},
+	} {
+		got, end := Place(x.l...)
+		if !slices.Equal(got, x.want) || end != x.end {
+			t.Error(i, got, end)
+		}
+	}
+}
+
+// P22.2: as numbers without bounds have it.
+func TestPlaceFarRandom(t *testing.T) {
+	r := rand.New(rand.NewSource(5))
+	lens := []int{1, 4, 7, math.MaxInt, math.MaxInt - 2, math.MaxInt - 3, math.MaxInt - 8, math.MaxInt / 2, math.MaxInt/2 + 1, math.MaxInt / 4}
+	for range 2000 {
+		l := make([]Span, r.Intn(9))
+		for i := range l {
+			from := r.Intn(5)
+			l[i] = Span{From: from, To: from + r.Intn(4), Len: lens[r.Intn(len(lens))]}
+		}
+		got, end := Place(l...)
+		want, wantEnd := unbounded(l)
+		if !slices.Equal(got, want) || end != wantEnd {
+			t.Fatal(l, got, end, want, wantEnd)
+		}
+	}
+}
+
+// unbounded is Place in numbers without bounds, cut at the end.
+func unbounded(l []Span) ([]int, int) {
+	cut := func(n *big.Int) int {
+		if !n.IsInt64() {
+			return math.MaxInt
+		}
+		return int(n.Int64())
+	}
+	ends := make([]*big.Int, len(l))
+	from := make([]*big.Int, len(l))
+	offs := make([]int, len(l))
+	end := new(big.Int)
+	for i, s := range l {
+		at := new(big.Int)
+		size := big.NewInt(int64(s.Len))
+		for k := 0; k < i; k++ {
+			meets := max(s.From, l[k].From) <= min(s.To, l[k].To)
+			if !meets || at.Cmp(ends[k]) >= 0 || new(big.Int).Add(at, size).Cmp(from[k]) <= 0 {
+				continue
+			}
+			at.Add(ends[k], big.NewInt(3))
+			at.Rsh(at, 2).Lsh(at, 2)
+			k = -1 // it may lie over one that was passed
+		}
+		from[i], ends[i], offs[i] = at, new(big.Int).Add(at, size), cut(at)
+		if ends[i].Cmp(end) > 0 {
+			end = ends[i]
+		}
+	}
+	return offs, cut(end)
 }
