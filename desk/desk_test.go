@@ -45,7 +45,8 @@ func TestTensor(t *testing.T) {
 	for s, want := range map[string]string{
 		"": noWord, "n": noWord, "n[2": noWord, "n[2]": noWord, "n[2]1,2": noWord, "n[2] :1,2": noWord, "x[2]:1,2": noWord, "N[2]:1,2": noWord, "[2]:1,2": noWord, "n2]:1,2": noWord, "nn[2]:1,2": noWord, "n[2]]:1,2": noWord, "n]:1": noWord, " n[]:1": noWord,
 		"n[2]:": noNumber, "n[2]:1,": noNumber, "n[2]:,1": noNumber, "n[2]:1,,2": noNumber, "n[2]:1,x": noNumber, "n[2]:1,02": noNumber, "n[2]:1,-0": noNumber, "n[2]:1,--2": noNumber, "n[2]:1,-": noNumber, "n[2]:1,+2": noNumber, "n[2]:1,12345678901": noNumber, "n[]:1;": noNumber, "n[2]:1 ,2": noNumber,
-		"n[x]:1": noNumber, "n[2x]:1,2": noNumber, "n[-1]:1": noNumber, "n[02]:1,2": noNumber, "n[1000]:1": noNumber, "n[0002]:1,2": noNumber, "n[2,1]:1,2": noNumber, "n[n[2]:1": noNumber, "n[y]:z": noNumber,
+		"n[x]:1": noNumber, "n[2x]:1,2": noNumber, "n[-0]:1": noNumber, "n[-]:1": noNumber, "n[-01]:1": noNumber, "n[--1]:1": noNumber, "n[-1000]:1": noNumber, "n[1-]:1": noNumber, "n[3x-1000]:1": noNumber, "n[-1]:x": noNumber, "n[-1]:": noNumber, "n[02]:1,2": noNumber, "n[1000]:1": noNumber, "n[0002]:1,2": noNumber, "n[2,1]:1,2": noNumber, "n[n[2]:1": noNumber, "n[y]:z": noNumber,
+		"n[-1]:1": api.ErrRange.Error(), "n[3x-1]:1,2,3": api.ErrRange.Error(), "n[-100]:1": api.ErrRange.Error(), "n[-999x1]:300": api.ErrRange.Error(), "w[-1]:9999999999": api.ErrRange.Error(),
 		"n[0]:1": api.ErrRange.Error(), "n[257]:1": api.ErrRange.Error(), "n[999]:1": api.ErrRange.Error(), "n[1x1x1x1x1]:1": api.ErrMany.Error(), "n[3]:1,2": api.ErrShape.Error(), "n[]:1,2": api.ErrShape.Error(),
 		"n[2]:1,128": "1: " + api.ErrRange.Error(), "n[2]:-129,128": "0: " + api.ErrRange.Error(), "w[]:9999999999": "0: " + api.ErrRange.Error(), "w[2]:0,2147483648": "1: " + api.ErrRange.Error(),
 	} {
@@ -76,7 +77,7 @@ func TestGraph(t *testing.T) {
 	for s, want := range map[string]string{
 		"": noWord, "   ": noWord, "input": "0: " + noWord, "input(": "0: " + noWord, "input)": "0: " + noWord, "(;0)": "0: " + noWord, "halt()": "0: " + noWord, "Input(;0)": "0: " + noWord, "relu(0) x(0)": "1: " + noWord, "relu(0)x": "0: " + noWord, "relu (0)": "0: " + noWord, "relu[0]": "0: " + noWord,
 		"relu(x)": "0: " + noNumber, "relu(0,)": "0: " + noNumber, "relu(0;1,)": "0: " + noNumber, "relu(0;;1)": "0: " + noNumber, "relu(0) relu(01)": "1: " + noNumber, "relu((0))": "0: " + noNumber, "relu(0;-0)": "0: " + noNumber, "const(x;y)": "0: " + noNumber,
-		"const()": "0: " + noWord, "const(;)": "0: " + noWord, "const(;1)": "0: " + noWord, "const(;n[2]:1,x)": "0: " + noNumber, "relu(0) const(;n[2]:1,200)": "1: " + api.ErrRange.Error(), "const(;n[2]:1)": "0: " + api.ErrShape.Error(),
+		"const()": "0: " + noWord, "const(;)": "0: " + noWord, "const(;1)": "0: " + noWord, "const(;n[2]:1,x)": "0: " + noNumber, "relu(0) const(;n[2]:1,200)": "1: " + api.ErrRange.Error(), "const(;n[2]:1)": "0: " + api.ErrShape.Error(), "const(;n[-2]:1)": "0: " + api.ErrRange.Error(),
 	} {
 		if got, err := Graph(s); text(err) != want || len(got.Nodes) != 0 || got.Out != 0 {
 			t.Error(s, got, err)
@@ -162,7 +163,7 @@ func TestLineRefuses(t *testing.T) {
 		"free 0 wight 1\t!"+noWord, "free 0 plan\t!"+noWord, "offer 0 0 1\t!"+noWord, "offer 0 0 for 1\t!"+noWord, "accept 0 from 1 2 3\t!"+noWord, "revoke 0\t!"+noWord,
 		"host x busy\t!"+noNumber, "used x\t!"+noNumber, "used 01\t!"+noNumber, "used -0\t!"+noNumber, "used 12345678901\t!"+noNumber, "used -1234567890\t"+none, "step x\t!"+noNumber, "step 1001\t!"+noNumber, "step -1\t!"+noNumber, "step 1000\t"+none,
 		"admit 0 part 500 quantum x queue 4\t!"+noNumber, "weight 0 x foo\t!"+noNumber, "graph x 0 foo\t!"+noNumber, "run 0 0 fuel x foo\t!"+noNumber, "run 0 0 fuel 9 foo with 1 x\t!"+noNumber, "free 0 plan x\t!"+noNumber, "accept 0 from x 2 into 3\t!"+noNumber,
-		"weight 0 0 foo\t!"+noWord, "weight 0 0 n[]:x\t!"+noNumber, "weight 0 0 n[]:200\t!0: "+api.ErrRange.Error(), "run 0 0 fuel 9 foo\t!"+noWord, "run 0 0 fuel 9 n[2]:1 with 1\t!"+api.ErrShape.Error(),
+		"weight 0 0 foo\t!"+noWord, "weight 0 0 n[]:x\t!"+noNumber, "weight 0 0 n[]:200\t!0: "+api.ErrRange.Error(), "weight 0 0 n[-1]:1\t!"+api.ErrRange.Error(), "weight 0 0 n[-1000]:1\t!"+noNumber, "run 0 0 fuel 9 foo\t!"+noWord, "run 0 0 fuel 9 n[2]:1 with 1\t!"+api.ErrShape.Error(),
 		"graph 0 0 foo\t!0: "+noWord, "graph 0 0 input(;0) relu(x)\t!1: "+noNumber, "graph 0 0 relu(-1)\t!"+api.ErrRange.Error(), "graph 0 0 relu(0;9999999999)\t!"+api.ErrRange.Error(), "graph 0 0 relu(1,2,3,4,5,6,7,8,9)\t!"+api.ErrMany.Error(), "graph 0 0"+strings.Repeat(" input(;0)", 65)+"\t!"+api.ErrMany.Error(),
 		"weight 0 0 n[]:1\t"+none, "graph 0 0 input(;0)\t"+none, "run 0 0 fuel 9 n[]:1\t"+none, "free 0 plan 1\t"+none, "offer 0 0 to 1\t"+none, "accept 0 from 1 2 into 3\t"+none, "revoke 0 1\t"+none, "retire 0\t"+none, "admit 0 part 500 quantum 1024 queue 4\t"+none, "used 1\t"+none,
 	)

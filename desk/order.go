@@ -105,7 +105,7 @@ func read(l []string) (order, error) {
 func (b blank) parse(form int) (order, error) {
 	o := order{form: form}
 	var err error
-	if o.n, err = numbers(b.numbers); err != nil {
+	if o.n, err = numbers(b.numbers, maxDigits); err != nil {
 		return order{}, err
 	}
 	if form == step && (o.n[0] < 0 || o.n[0] > maxSteps) {

@@ -23,17 +23,17 @@ func words(s string) []string {
 	return strings.FieldsFunc(s, func(r rune) bool { return r == ' ' })
 }
 
-// number is the number that s is.
-func number(s string) (int, bool) {
+// number is the number that s is, of so many digits at most; its `-` is none of them.
+func number(s string, most int) (int, bool) {
 	digits, below := strings.CutPrefix(s, "-")
-	n, ok := natural(digits, maxDigits)
+	n, ok := natural(digits, most)
 	if below {
 		return -n, ok && n > 0
 	}
 	return n, ok
 }
 
-// natural is the number that s is, of so many digits at most.
+// natural is the number that s is, without a `-`.
 func natural(s string, most int) (int, bool) {
 	if len(s) < 1 || len(s) > most || len(s) > 1 && s[0] == '0' {
 		return 0, false
@@ -48,11 +48,11 @@ func natural(s string, most int) (int, bool) {
 	return n, true
 }
 
-// numbers is the numbers that l is.
-func numbers(l []string) ([]int, error) {
+// numbers is the numbers that l is, of so many digits each at most.
+func numbers(l []string, most int) ([]int, error) {
 	var out []int
 	for _, s := range l {
-		n, ok := number(s)
+		n, ok := number(s, most)
 		if !ok {
 			return nil, api.ErrNumber
 		}
@@ -66,7 +66,7 @@ func list(s string) ([]int, error) {
 	if s == "" {
 		return nil, nil
 	}
-	return numbers(strings.Split(s, ","))
+	return numbers(strings.Split(s, ","), maxDigits)
 }
 
 // Tensor is the tensor that s is.
@@ -86,7 +86,7 @@ func Tensor(s string) (api.Tensor, error) {
 	if t.Shape, err = dimensions(dims); err != nil {
 		return api.Tensor{}, err
 	}
-	if t.Data, err = numbers(strings.Split(data, ",")); err != nil {
+	if t.Data, err = numbers(strings.Split(data, ","), maxDigits); err != nil {
 		return api.Tensor{}, err
 	}
 	if err := tens.Valid(t); err != nil {
@@ -100,15 +100,7 @@ func dimensions(s string) ([]int, error) {
 	if s == "" {
 		return nil, nil
 	}
-	var out []int
-	for _, digits := range strings.Split(s, "x") {
-		n, ok := natural(digits, maxDimDigits)
-		if !ok {
-			return nil, api.ErrNumber
-		}
-		out = append(out, n)
-	}
-	return out, nil
+	return numbers(strings.Split(s, "x"), maxDimDigits)
 }
 
 // Show is t as Tensor has it; of one that may not be empty.
