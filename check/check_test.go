@@ -181,3 +181,24 @@ func TestApart(t *testing.T) {
 		}
 	}
 }
+
+// P15.3: ends that fit no int.
+func TestApartFar(t *testing.T) {
+	const least, most = math.MinInt, math.MaxInt
+	for i, x := range []struct {
+		a, b api.View
+		want bool
+	}{
+		{api.View{Off: most, Desc: narrow(4)}, api.View{Off: most, Desc: narrow(4)}, false},
+		{api.View{Off: most - 3, Desc: wide()}, api.View{Off: most, Desc: narrow()}, false},
+		{api.View{Off: most - 3, Desc: narrow(3)}, api.View{Off: most, Desc: narrow()}, true},
+		{api.View{Off: most, Desc: narrow(4)}, api.View{Off: least, Desc: narrow(4)}, true},
+		{api.View{Off: least, Desc: narrow(4)}, api.View{Off: least + 3, Desc: narrow(4)}, false},
+		{api.View{Off: least, Desc: narrow(4)}, api.View{Off: least + 4, Desc: narrow(4)}, true},
+		{api.View{Off: -4, Desc: narrow(4)}, api.View{Off: most, Desc: narrow(4)}, true},
+	} {
+		if Apart(x.a, x.b) != x.want || Apart(x.b, x.a) != x.want {
+			t.Error(i)
+		}
+	}
+}
